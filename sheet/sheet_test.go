@@ -9,6 +9,7 @@ import (
 	"testing"
 
 	"leverman/api"
+	"leverman/example"
 	"leverman/item"
 	"leverman/sheet"
 )
@@ -16,37 +17,7 @@ import (
 const length = 1099511627776 // MaxLength, as the document tells it
 
 // station is the document's own, and stationItems what its lines are.
-const station = `overlap 3000
-approach 15000
-settle 2
-hold 1
-section W 9000
-section V 8000
-point P 5000
-section T 7000
-section U 7000
-point Q 5000
-section E 9000
-section F 8000
-join V.b W.a
-join W.b P.t
-join P.n T.a
-join P.r U.a
-join T.b Q.n
-join U.b Q.r
-join Q.t E.a
-join E.b F.a
-buffer V.a
-buffer F.b
-signal A W.b
-signal B T.b
-signal C U.b
-signal D E.a
-signal G T.a
-signal H U.a
-signal I V.b
-signal J F.a
-`
+const station = example.Station
 
 func stationItems() []api.Item {
 	return []api.Item{
