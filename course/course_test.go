@@ -4,7 +4,6 @@ import (
 	"math"
 	"math/rand"
 	"slices"
-	"strconv"
 	"strings"
 	"sync"
 	"testing"
@@ -80,85 +79,19 @@ func way(exit int, numbers ...int) api.Way {
 	return w
 }
 
-// yard is a station as a test lays it; ends that it doesn't join are stopped.
-type yard struct {
-	head, tail strings.Builder
-	tips       []string
-	joined     map[string]bool
-}
-
-func (y *yard) plain(names ...string) {
-	for _, name := range names {
-		y.head.WriteString("section " + name + " 5\n")
-		y.tips = append(y.tips, name+".a", name+".b")
-	}
-}
-
-func (y *yard) point(names ...string) {
-	for _, name := range names {
-		y.head.WriteString("point " + name + " 5\n")
-		y.tips = append(y.tips, name+".t", name+".n", name+".r")
-	}
-}
-
-func (y *yard) join(a, b string) {
-	y.tail.WriteString("join " + a + " " + b + "\n")
-	if y.joined == nil {
-		y.joined = map[string]bool{}
-	}
-	y.joined[a], y.joined[b] = true, true
-}
-
-func (y *yard) post(name, tip string) { y.tail.WriteString("signal " + name + " " + tip + "\n") }
+// yard is a station as a test lays it.
+type yard struct{ example.Layout }
 
 func (y *yard) plan(t *testing.T) api.Plan {
 	t.Helper()
-	stops := ""
-	for _, tip := range y.tips {
-		if !y.joined[tip] {
-			stops += "buffer " + tip + "\n"
-		}
-	}
-	return build(t, y.head.String()+stops+y.tail.String())
-}
-
-// row joins so many new plain sections one behind the other, from an end on, and gives the last one's far end.
-func (y *yard) row(from string, n int) string {
-	for range n {
-		name := "x" + strconv.Itoa(len(y.tips))
-		y.plain(name)
-		y.join(from, name+".a")
-		from = name + ".b"
-	}
-	return from
-}
-
-// diamonds joins so many pairs of new points, leg to leg, one behind the other, from an end on, and gives the last one's toe.
-func (y *yard) diamonds(from string, n int) string {
-	for range n {
-		p, q := "p"+strconv.Itoa(len(y.tips)), "q"+strconv.Itoa(len(y.tips))
-		y.point(p, q)
-		y.join(from, p+".t")
-		y.join(p+".n", q+".n")
-		y.join(p+".r", q+".r")
-		from = q + ".t"
-	}
-	return from
-}
-
-// ring joins a new point whose legs are joined, by its toe: a search that enters it turns back twice.
-func (y *yard) ring(from string) {
-	name := "r" + strconv.Itoa(len(y.tips))
-	y.point(name)
-	y.join(from, name+".t")
-	y.join(name+".n", name+".r")
+	return build(t, y.Text())
 }
 
 // begun is a yard of the section W with the signal A at its end b.
 func begun() *yard {
 	y := &yard{}
-	y.plain("W")
-	y.post("A", "W.b")
+	y.Plain("W")
+	y.Post("A", "W.b")
 	return y
 }
 
@@ -258,19 +191,19 @@ func TestWaysInTheStation(t *testing.T) {
 
 func TestWaysAheadOfAToe(t *testing.T) {
 	y := begun()
-	y.point("P")
-	y.plain("T", "U", "Y", "Z")
-	y.join("W.b", "P.t")
-	y.join("P.n", "U.a")
-	y.join("P.r", "T.b")
-	y.join("U.b", "Y.a")
-	y.join("T.a", "Z.a")
-	y.post("B", "T.a")
-	y.post("C", "U.b")
+	y.Point("P")
+	y.Plain("T", "U", "Y", "Z")
+	y.Join("W.b", "P.t")
+	y.Join("P.n", "U.a")
+	y.Join("P.r", "T.b")
+	y.Join("U.b", "Y.a")
+	y.Join("T.a", "Z.a")
+	y.Post("B", "T.a")
+	y.Post("C", "U.b")
 	// Signals for who comes from there end no way, nor does one at the end by which W is entered.
-	y.post("D", "U.a")
-	y.post("E", "P.t")
-	y.post("F", "P.r")
+	y.Post("D", "U.a")
+	y.Post("E", "P.t")
+	y.Post("F", "P.r")
 	p := y.plan(t)
 	ways(t, p, 0, way(2, 0, 0, 1, 2, 0, 1), way(5, 0, 0, 2))
 	ways(t, p, 1, way(-1, 5, 0, 1))
@@ -283,15 +216,15 @@ func TestWaysAheadOfAToe(t *testing.T) {
 // A way ends at the first signal, or where it is stopped, be it a point's leg, or its toe.
 func TestWhereAWayEnds(t *testing.T) {
 	y := begun()
-	y.point("P", "Q")
-	y.join("W.b", "P.t")
-	y.join("P.r", "Q.n")
+	y.Point("P", "Q")
+	y.Join("W.b", "P.t")
+	y.Join("P.r", "Q.n")
 	p := y.plan(t) // P.n, Q.t are stopped
 	ways(t, p, 0, way(-1, 0, 0, 1), way(-1, 0, 0, 2, 1, 1, 0))
-	y.plain("Z")
-	y.join("Q.t", "Z.a")
-	y.post("K", "Q.t")
-	y.post("B", "Z.a")
+	y.Plain("Z")
+	y.Join("Q.t", "Z.a")
+	y.Post("K", "Q.t")
+	y.Post("B", "Z.a")
 	p = y.plan(t)
 	ways(t, p, 0, way(-1, 0, 0, 1), way(2, 0, 0, 2, 1, 1, 0))
 	ways(t, p, 1, way(-1, 1, 0, 1, 0, 2, 0, 2, 1, 0), way(-1, 1, 0, 2))
@@ -301,18 +234,18 @@ func TestWhereAWayEnds(t *testing.T) {
 // Each leg of one point goes on over both of the next one, one wholly ahead of the other one.
 func TestOrderOfWays(t *testing.T) {
 	y := begun()
-	y.point("P", "Q", "R")
-	y.join("W.b", "P.t")
-	y.join("P.n", "R.t")
-	y.join("P.r", "Q.t")
+	y.Point("P", "Q", "R")
+	y.Join("W.b", "P.t")
+	y.Join("P.n", "R.t")
+	y.Join("P.r", "Q.t")
 	ways(t, y.plan(t), 0,
 		way(-1, 0, 0, 1, 2, 0, 1), way(-1, 0, 0, 1, 2, 0, 2),
 		way(-1, 0, 0, 2, 1, 0, 1), way(-1, 0, 0, 2, 1, 0, 2))
 	y = begun()
-	p := y.diamonds("W.b", 2)
-	y.plain("Z")
-	y.join(p, "Z.a")
-	y.post("B", p)
+	p := y.Diamonds("W.b", 2)
+	y.Plain("Z")
+	y.Join(p, "Z.a")
+	y.Post("B", p)
 	ways(t, y.plan(t), 0,
 		way(1, 2, 0, 1, 4, 1, 0, 3, 0, 1, 5, 1, 0), way(1, 2, 0, 1, 4, 1, 0, 3, 0, 2, 5, 2, 0),
 		way(1, 2, 0, 2, 4, 2, 0, 3, 0, 1, 5, 1, 0), way(1, 2, 0, 2, 4, 2, 0, 3, 0, 2, 5, 2, 0))
@@ -341,20 +274,20 @@ func TestTheSignalsOwnSection(t *testing.T) {
 
 func TestSectionsThatAreInTheWay(t *testing.T) {
 	y := begun()
-	y.ring("W.b")
+	y.Ring("W.b")
 	ways(t, y.plan(t), 0)
 	// round by either leg, to a signal that stands for one of both
 	y = begun()
-	y.point("P")
-	y.plain("L")
-	y.join("W.b", "P.t")
-	y.join("P.n", "L.a")
-	y.join("P.r", "L.b")
+	y.Point("P")
+	y.Plain("L")
+	y.Join("W.b", "P.t")
+	y.Join("P.n", "L.a")
+	y.Join("P.r", "L.b")
 	ways(t, y.plan(t), 0)
-	y.post("B", "L.a")
+	y.Post("B", "L.a")
 	ways(t, y.plan(t), 0, way(1, 1, 0, 2, 0, 1, 0))
 	ways(t, y.plan(t), 1, way(-1, 1, 1, 0, 2, 1, 0))
-	y.post("C", "L.b")
+	y.Post("C", "L.b")
 	ways(t, y.plan(t), 0, way(2, 1, 0, 1, 0, 0, 1), way(1, 1, 0, 2, 0, 1, 0))
 	ways(t, y.plan(t), 2, way(-1, 1, 2, 0, 2, 1, 0))
 }
@@ -362,18 +295,18 @@ func TestSectionsThatAreInTheWay(t *testing.T) {
 // A section that one way goes through may be in another one again, also by other ends.
 func TestSectionsOfOtherWays(t *testing.T) {
 	y := begun()
-	y.point("P", "Q", "R")
-	y.join("W.b", "P.t")
-	y.join("P.n", "Q.n")
-	y.join("P.r", "R.n")
-	y.join("Q.r", "R.r")
+	y.Point("P", "Q", "R")
+	y.Join("W.b", "P.t")
+	y.Join("P.n", "Q.n")
+	y.Join("P.r", "R.n")
+	y.Join("Q.r", "R.r")
 	ways(t, y.plan(t), 0, way(-1, 0, 0, 1, 1, 1, 0), way(-1, 0, 0, 2, 2, 1, 0))
 	y = begun()
-	y.point("P", "Q", "R")
-	y.join("W.b", "P.t")
-	y.join("P.n", "Q.t")
-	y.join("P.r", "R.t")
-	y.join("Q.r", "R.r")
+	y.Point("P", "Q", "R")
+	y.Join("W.b", "P.t")
+	y.Join("P.n", "Q.t")
+	y.Join("P.r", "R.t")
+	y.Join("Q.r", "R.r")
 	ways(t, y.plan(t), 0,
 		way(-1, 0, 0, 1, 1, 0, 1),
 		way(-1, 0, 0, 2, 2, 0, 1))
@@ -407,7 +340,7 @@ func TestSignalsInSpareRoom(t *testing.T) {
 func TestRowsOfSections(t *testing.T) {
 	for n := 1; n < api.MaxSections; n++ {
 		y := begun()
-		y.row("W.b", n)
+		y.Row("W.b", n)
 		if n > api.MaxSteps {
 			fails(t, y.plan(t), 0, api.ErrLong)
 		} else {
@@ -420,11 +353,11 @@ func TestRowsOfSections(t *testing.T) {
 func TestRowsPastSignals(t *testing.T) {
 	for n := 3; n < api.MaxSections; n++ {
 		y := begun()
-		last := y.row("W.b", n-1)
-		y.plain("Z")
-		y.join(last, "Z.a")
-		y.post("B", "Z.a")
-		y.post("C", strings.Replace(last, ".b", ".a", 1))
+		last := y.Row("W.b", n-1)
+		y.Plain("Z")
+		y.Join(last, "Z.a")
+		y.Post("B", "Z.a")
+		y.Post("C", strings.Replace(last, ".b", ".a", 1))
 		if n > api.MaxSteps {
 			fails(t, y.plan(t), 0, api.ErrLong)
 		} else {
@@ -437,9 +370,9 @@ func TestRowsPastSignals(t *testing.T) {
 func TestRowsUpToASignal(t *testing.T) {
 	for n := 1; n < api.MaxSections-4; n++ {
 		y := begun()
-		last := y.row("W.b", n)
-		y.post("B", last)
-		y.row(last, 4)
+		last := y.Row("W.b", n)
+		y.Post("B", last)
+		y.Row(last, 4)
 		p := y.plan(t)
 		if n > api.MaxSteps {
 			fails(t, p, 0, api.ErrLong)
@@ -454,15 +387,15 @@ func TestRowsUpToASignal(t *testing.T) {
 func TestRingsOfSections(t *testing.T) {
 	for n := 1; n < api.MaxSections-1; n++ {
 		own := begun()
-		own.join(own.row("W.b", n), "W.a")
+		own.Join(own.Row("W.b", n), "W.a")
 		round := begun()
-		round.point("P")
-		round.join("W.b", "P.t")
-		round.join(round.row("P.n", n-1), "P.r")
+		round.Point("P")
+		round.Join("W.b", "P.t")
+		round.Join(round.Row("P.n", n-1), "P.r")
 		back := &yard{}
-		back.point("P")
-		back.post("A", "P.n")
-		back.join(back.row("P.n", n), "P.r")
+		back.Point("P")
+		back.Post("A", "P.n")
+		back.Join(back.Row("P.n", n), "P.r")
 		for _, p := range []api.Plan{own.plan(t), round.plan(t), back.plan(t)} {
 			if n > api.MaxSteps {
 				fails(t, p, 0, api.ErrLong)
@@ -477,17 +410,17 @@ func TestRingsOfSections(t *testing.T) {
 func TestAPointAtTheEndOfALongWay(t *testing.T) {
 	for _, leg := range []string{"", ".n", ".r"} {
 		y := begun()
-		last := y.row("W.b", 15)
-		y.point("P")
-		y.join(last, "P.t")
+		last := y.Row("W.b", 15)
+		y.Point("P")
+		y.Join(last, "P.t")
 		if leg == "" {
 			count(t, y.plan(t), 0, 2)
 			continue
 		}
-		y.plain("Z")
-		y.join("P"+leg, "Z.a")
+		y.Plain("Z")
+		y.Join("P"+leg, "Z.a")
 		fails(t, y.plan(t), 0, api.ErrLong)
-		y.post("B", "P"+leg)
+		y.Post("B", "P"+leg)
 		count(t, y.plan(t), 0, 2)
 	}
 }
@@ -497,10 +430,10 @@ func TestOneLongWayAmongOthers(t *testing.T) {
 	for _, legs := range [][2]string{{".n", ".r"}, {".r", ".n"}} {
 		for _, n := range []int{15, 16} {
 			y := begun()
-			y.point("P")
-			y.join("W.b", "P.t")
-			y.row("P"+legs[0], 3)
-			y.row("P"+legs[1], n)
+			y.Point("P")
+			y.Join("W.b", "P.t")
+			y.Row("P"+legs[0], 3)
+			y.Row("P"+legs[1], n)
 			if n == 15 {
 				count(t, y.plan(t), 0, 2)
 			} else {
@@ -515,16 +448,16 @@ func TestOneLongWayAmongOthers(t *testing.T) {
 // fork lays, behind so many plain sections, a point with 381 enterings behind one leg and 18 behind the other one.
 func fork(ahead int, small, great string, end func(y *yard, last string)) *yard {
 	y := begun()
-	last := y.row("W.b", ahead)
-	y.point("F")
-	y.join(last, "F.t")
-	y.row(y.diamonds(y.row("F"+small, 1), 2), 2)
-	end(y, y.diamonds("F"+great, 6))
+	last := y.Row("W.b", ahead)
+	y.Point("F")
+	y.Join(last, "F.t")
+	y.Row(y.Diamonds(y.Row("F"+small, 1), 2), 2)
+	end(y, y.Diamonds("F"+great, 6))
 	return y
 }
 
-func more(y *yard, last string)   { y.diamonds(last, 1) }
-func around(y *yard, last string) { y.ring(last) }
+func more(y *yard, last string)   { y.Diamonds(last, 1) }
+func around(y *yard, last string) { y.Ring(last) }
 
 // exactly holds how many sections a search enters by told's count, so that the stations are what they are laid for.
 func exactly(t *testing.T, p api.Plan, want int) {
@@ -554,13 +487,13 @@ func TestTriesThatTurnBack(t *testing.T) { bound(t, 4, around) }
 // Back to the signal's own section: 381 enterings of others, and 128 of that one.
 func TestTriesOfTheSignalsOwnSection(t *testing.T) {
 	y := begun()
-	last := y.diamonds("W.b", 7)
+	last := y.Diamonds("W.b", 7)
 	exactly(t, y.plan(t), 381)
 	count(t, y.plan(t), 0, 128)
-	y.join(last, "W.a")
+	y.Join(last, "W.a")
 	fails(t, y.plan(t), 0, api.ErrLong)
 	y = begun()
-	y.join(y.diamonds("W.b", 6), "W.a")
+	y.Join(y.Diamonds("W.b", 6), "W.a")
 	exactly(t, y.plan(t), 253)
 	ways(t, y.plan(t), 0)
 }
@@ -568,11 +501,11 @@ func TestTriesOfTheSignalsOwnSection(t *testing.T) {
 // No limit but that of tries holds how many ways there are: these are more than a byte counts.
 func TestManyWays(t *testing.T) {
 	y := begun()
-	last := y.diamonds("W.b", 6)
-	y.point("F", "G", "H")
-	y.join(last, "F.t")
-	y.join("F.n", "G.t")
-	y.join("F.r", "H.t")
+	last := y.Diamonds("W.b", 6)
+	y.Point("F", "G", "H")
+	y.Join(last, "F.t")
+	y.Join("F.n", "G.t")
+	y.Join("F.r", "H.t")
 	exactly(t, y.plan(t), 381)
 	count(t, y.plan(t), 0, 256)
 }
@@ -580,12 +513,12 @@ func TestManyWays(t *testing.T) {
 // Each signal's search counts from the beginning.
 func TestTriesOfManySignals(t *testing.T) {
 	y := begun()
-	last := y.diamonds("W.b", 7)
-	y.plain("Z")
-	y.join(last, "Z.a")
-	y.post("B", "Z.a")
-	y.post("C", last)
-	y.post("D", "p2.t")
+	last := y.Diamonds("W.b", 7)
+	y.Plain("Z")
+	y.Join(last, "Z.a")
+	y.Post("B", "Z.a")
+	y.Post("C", last)
+	y.Post("D", "p2.t")
 	p := y.plan(t)
 	for range 3 {
 		count(t, p, 0, 128)
@@ -596,36 +529,6 @@ func TestTriesOfManySignals(t *testing.T) {
 }
 
 // P7.1, P7.2: stations that are drawn.
-
-// drawn is a station of so many points and plain sections, with some of their ends paired off, and signals at some of these.
-func drawn(r *rand.Rand, points, plains, pairs, signals int) string {
-	names := r.Perm(points + plains)
-	var b strings.Builder
-	var tips []string
-	for i, n := range names {
-		name, word, letters := "s"+strconv.Itoa(n), "section ", "ab"
-		if i < points {
-			word, letters = "point ", "tnr"
-		}
-		b.WriteString(word + name + " 5\n")
-		for _, c := range letters {
-			tips = append(tips, name+"."+string(c))
-		}
-	}
-	r.Shuffle(len(tips), func(i, j int) { tips[i], tips[j] = tips[j], tips[i] })
-	cut := max(0, 2*pairs)
-	for x := range slices.Chunk(tips[:cut], 2) {
-		b.WriteString("join " + x[0] + " " + x[1] + "\n")
-	}
-	for _, tip := range tips[cut:] {
-		b.WriteString("buffer " + tip + "\n")
-	}
-	at := r.Perm(cut)
-	for i := range min(signals, cut) {
-		b.WriteString("signal " + string(rune('A'+i)) + " " + tips[at[i]] + "\n")
-	}
-	return b.String()
-}
 
 // tally counts what stations were drawn, so that a test isn't held by empty answers alone.
 type tally struct{ none, one, some, long int }
@@ -711,7 +614,7 @@ func TestDrawnSmallStations(t *testing.T) {
 	for range 12000 {
 		points, plains := r.Intn(5), 1+r.Intn(5)
 		ends := 3*points + 2*plains
-		holds(t, build(t, drawn(r, points, plains, ends/2-r.Intn(3), 1+r.Intn(4))), &c)
+		holds(t, build(t, example.Drawn(r.Intn, points, plains, ends/2-r.Intn(3), 1+r.Intn(4))), &c)
 		if t.Failed() {
 			return
 		}
@@ -728,7 +631,7 @@ func TestDrawnGreatStations(t *testing.T) {
 		sections := 12 + r.Intn(13)
 		points := r.Intn(sections + 1)
 		ends := 2*sections + points
-		holds(t, build(t, drawn(r, points, sections-points, ends/2-r.Intn(4), 1+r.Intn(1+r.Intn(12)))), &c)
+		holds(t, build(t, example.Drawn(r.Intn, points, sections-points, ends/2-r.Intn(4), 1+r.Intn(1+r.Intn(12)))), &c)
 		if t.Failed() {
 			return
 		}
@@ -770,7 +673,7 @@ func spoil(l []api.Step) {
 
 func TestAnswersStandAlone(t *testing.T) {
 	y := begun()
-	y.row(y.diamonds(y.row("W.b", 2), 4), 3)
+	y.Row(y.Diamonds(y.Row("W.b", 2), 4), 3)
 	for _, p := range []api.Plan{build(t, station), y.plan(t)} {
 		a, _ := course.Of(p, 0)
 		b, _ := course.Of(p, 0)

@@ -1,4 +1,4 @@
-// Package example holds the station of the document's examples, which the layers' tests play by.
+// Package example holds the station of the document's examples, which the layers' tests play by, and lays and draws other ones for them.
 package example
 
 // Station has two tracks, T and U, between two points, P and Q. By their names its sections are E 0, F 1, P 2, Q 3, T 4, U 5, V 6, W 7, its signals A 0, B 1, C 2, D 3, G 4, H 5, I 6, J 7.
